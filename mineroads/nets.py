@@ -104,3 +104,16 @@ def without_closings(net, number):
     changed = copy_net(net)
     changed.closings = [closing for closing in net.closings if closing.road != number]
     return changed
+
+
+def counted_rows(parts):
+    """How many parts there are, and the numbers of each."""
+    told = [len(parts)]
+    for part in parts:
+        told.extend(part.row())
+    return told
+
+
+def net_numbers(net):
+    return (counted_rows(net.junctions) + counted_rows(net.roads)
+            + counted_rows(net.speeds) + counted_rows(net.closings))

@@ -13,6 +13,15 @@ SHAPES = {
     6: (2, False),
     7: (3, False),
     8: (4, False),
+    9: (3, True),
+    10: (3, True),
+    11: (4, False),
+    12: (2, False),
+    13: (4, False),
+    14: (4, False),
+    15: (4, True),
+    16: (4, False),
+    17: (0, False),
 }
 
 

@@ -59,16 +59,28 @@ def closing_start(closing):
     return closing.lo
 
 
+def road_step(net, road, way, loaded):
+    """The step of a road in one way, or None if it isn't gone so."""
+    minutes = road_minutes(net, road, way, loaded)
+    if minutes == NOT_GONE:
+        return None
+    closings = sorted(closings_of(net, road.number), key=closing_start)
+    return Step(road.number, road_start(road, way), road_end(road, way), minutes, closings)
+
+
 def all_steps(net, loaded):
     """Every step there is, in the order of the roads, of one road from a to b before from b to a."""
     steps = []
     for road in net.roads:
-        closings = sorted(closings_of(net, road.number), key=closing_start)
         for way in (FROM_A_TO_B, FROM_B_TO_A):
-            minutes = road_minutes(net, road, way, loaded)
-            if minutes != NOT_GONE:
-                steps.append(Step(road.number, road_start(road, way), road_end(road, way), minutes, closings))
+            step = road_step(net, road, way, loaded)
+            if step is not None:
+                steps.append(step)
     return steps
+
+
+def can_begin(step, minute):
+    return all([minute + step.minutes <= closing.lo or closing.hi <= minute for closing in step.closings])
 
 
 def first_begin(step, minute):

@@ -46,6 +46,42 @@ def route(a, b, t, l):
     return [8, a, b, t, l]
 
 
+def check(a, t, l, numbers):
+    return [9, a, t, l, len(numbers)] + list(numbers)
+
+
+def table(a, t, l, numbers):
+    return [10, a, t, l, len(numbers)] + list(numbers)
+
+
+def without(n, a, t, l):
+    return [11, n, a, t, l]
+
+
+def needed(a, l):
+    return [12, a, l]
+
+
+def round_trip(a, b, t, stay):
+    return [13, a, b, t, stay]
+
+
+def within(a, t, m, l):
+    return [14, a, t, m, l]
+
+
+def ramp(nx, m, first, second, heights):
+    return [15, nx, m, first, second, len(heights)] + list(heights)
+
+
+def begins(n, t, l, w):
+    return [16, n, t, l, w]
+
+
+def net():
+    return [17]
+
+
 def flat(calls):
     return [number for call in calls for number in call]
 
@@ -88,3 +124,12 @@ def written(*calls):
 
 def lines(*rows):
     return "".join(row + "\n" for row in rows)
+
+
+# Every road of such a net is level and gone at 10 metres a minute: its minutes are its length by 1000.
+LEVEL_SPEED = "speed 0 10 10 10 10"
+
+
+def level_net(junctions, roads, closings=()):
+    return lines(*[f"junction {number} 0" for number in junctions], *[f"road {row}" for row in roads], LEVEL_SPEED,
+                 *[f"closed {row}" for row in closings])
